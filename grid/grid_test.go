@@ -8,6 +8,7 @@ import (
 
 	"embrasure/api"
 	"embrasure/grid"
+	"embrasure/plan"
 )
 
 const (
@@ -17,44 +18,6 @@ const (
 	half  = api.One / 2
 )
 
-// open is a map of these sides without a solid cell.
-func open(w, d, h int) api.Map { return api.Map{W: w, D: d, H: h, Solid: make([]bool, w*d*h)} }
-
-// set makes a cell of a map solid.
-func set(m api.Map, x, y, z int) api.Map {
-	m.Solid = slices.Clone(m.Solid)
-	m.Solid[(z*m.D+y)*m.W+x] = true
-	return m
-}
-
-// plan is a map of storeys, the lowest one first: a row of text for each y.
-func plan(storeys ...[]string) api.Map {
-	m := api.Map{W: len(storeys[0][0]), D: len(storeys[0]), H: len(storeys)}
-	for _, rows := range storeys {
-		for _, row := range rows {
-			for _, c := range row {
-				m.Solid = append(m.Solid, c == '#')
-			}
-		}
-	}
-	return m
-}
-
-// mixed is a map of which about one of so many cells is solid, another one for each seed.
-func mixed(w, d, h int, of int64, seed uint32) api.Map {
-	m := open(w, d, h)
-	for i := range m.Solid {
-		m.Solid[i] = next(&seed)%of == 0
-	}
-	return m
-}
-
-// next is a number from 0 to 65535 that looks like any other.
-func next(seed *uint32) int64 {
-	*seed = *seed*1664525 + 1013904223
-	return int64(*seed >> 16)
-}
-
 func spawning(m api.Map, l ...api.Vec) api.Map {
 	m.Spawns = l
 	return m
@@ -63,46 +26,15 @@ func spawning(m api.Map, l ...api.Vec) api.Map {
 // room is where a player of a map of 3 by 3 by 4 cells has room to all sides: its middle cell.
 var room = api.Vec{X: 3 * half, Y: 3 * half, Z: 2 * one}
 
-// unsized are maps that are not sized, and have a place to begin that would be right.
-func unsized() []api.Map {
-	l := []api.Map{{}, {W: 3, D: 3, H: 4}, {Solid: make([]bool, 36)}}
-	for _, side := range []int{0, -1, -3, api.MaxSide + 1, most, least} {
-		for i := range 3 {
-			sides := [3]int{3, 3, 4}
-			sides[i] = side
-			m := api.Map{W: sides[0], D: sides[1], H: sides[2]}
-			// The length is what the sides ask for, where it can be.
-			if n := m.W * m.D * m.H; n > 0 && n < 1<<20 {
-				m.Solid = make([]bool, n)
-			}
-			l = append(l, m)
-		}
-	}
-	for _, n := range []int{0, 1, 35, 37, 72} {
-		l = append(l, api.Map{W: 3, D: 3, H: 4, Solid: make([]bool, n)})
-	}
-	l = append(l,
-		api.Map{W: -3, D: -3, H: 4, Solid: make([]bool, 36)},
-		api.Map{W: -3, D: 3, H: -4, Solid: make([]bool, 36)},
-		api.Map{W: 32, D: 32, H: 32, Solid: make([]bool, 32*32*32-1)},
-		api.Map{W: 32, D: 32, H: 32, Solid: make([]bool, 32*32*32+1)},
-		api.Map{W: 1 << 32, D: 1 << 32, H: 1},
-	)
-	for i := range l {
-		l[i].Spawns = []api.Vec{room}
-	}
-	return l
-}
-
 func TestRight(t *testing.T) {
 	for i, m := range []api.Map{
-		spawning(open(1, 1, 2), api.Vec{X: half, Y: half, Z: one}),
-		spawning(open(32, 1, 2), api.Vec{X: 31*one + half, Y: half, Z: one}),
-		spawning(open(1, 32, 2), api.Vec{X: half, Y: 31*one + half, Z: one}),
-		spawning(open(1, 1, 32), api.Vec{X: half, Y: half, Z: 31 * one}),
-		spawning(open(32, 32, 32), room, api.Vec{X: 31 * one, Y: 31 * one, Z: 31 * one}, room),
-		spawning(set(open(3, 3, 4), 0, 0, 0), room),
-		spawning(open(3, 3, 4), slices.Repeat([]api.Vec{room}, 64)...),
+		spawning(plan.Open(1, 1, 2), api.Vec{X: half, Y: half, Z: one}),
+		spawning(plan.Open(32, 1, 2), api.Vec{X: 31*one + half, Y: half, Z: one}),
+		spawning(plan.Open(1, 32, 2), api.Vec{X: half, Y: 31*one + half, Z: one}),
+		spawning(plan.Open(1, 1, 32), api.Vec{X: half, Y: half, Z: 31 * one}),
+		spawning(plan.Open(32, 32, 32), room, api.Vec{X: 31 * one, Y: 31 * one, Z: 31 * one}, room),
+		spawning(plan.Set(plan.Open(3, 3, 4), 0, 0, 0), room),
+		spawning(plan.Open(3, 3, 4), slices.Repeat([]api.Vec{room}, 64)...),
 	} {
 		if e := grid.Right(m); e != api.OK {
 			t.Errorf("%d: %v", i, e)
@@ -111,19 +43,19 @@ func TestRight(t *testing.T) {
 }
 
 func TestRightOfMapsThatAreNotSized(t *testing.T) {
-	for i, m := range unsized() {
-		if e := grid.Right(m); e != api.ErrArg {
+	for i, m := range plan.Unsized() {
+		if e := grid.Right(spawning(m, room)); e != api.ErrArg {
 			t.Errorf("%d, of %d by %d by %d and %d cells: %v", i, m.W, m.D, m.H, len(m.Solid), e)
 		}
 	}
 	// A player has no room in a storey of one cell.
-	if e := grid.Right(spawning(open(3, 3, 1), api.Vec{X: half, Y: half, Z: half})); e != api.ErrArg {
+	if e := grid.Right(spawning(plan.Open(3, 3, 1), api.Vec{X: half, Y: half, Z: half})); e != api.ErrArg {
 		t.Errorf("one storey: %v", e)
 	}
 }
 
 func TestRightOfSpawns(t *testing.T) {
-	m := open(3, 3, 4)
+	m := plan.Open(3, 3, 4)
 	ends := []api.Vec{}
 	for _, n := range []int64{least, least + 1, least + one, -1 << 48, most, most - 1, most - one, 1 << 48, 1 << 32} {
 		ends = append(ends, api.Vec{X: n, Y: room.Y, Z: room.Z}, api.Vec{X: room.X, Y: n, Z: room.Z}, api.Vec{X: room.X, Y: room.Y, Z: n}, api.Vec{X: n, Y: n, Z: n})
@@ -138,17 +70,17 @@ func TestRightOfSpawns(t *testing.T) {
 			t.Errorf("%v: %v", at, e)
 		}
 	}
-	if e := grid.Right(spawning(set(m, 1, 1, 1), room)); e != api.ErrArg {
+	if e := grid.Right(spawning(plan.Set(m, 1, 1, 1), room)); e != api.ErrArg {
 		t.Errorf("in a wall: %v", e)
 	}
 }
 
 // The box of a player may touch a wall, be it the end of the map or a cell, but not reach into it.
 func TestRightBesideWalls(t *testing.T) {
-	ends := open(3, 3, 4)
-	walls := open(3, 3, 4)
+	ends := plan.Open(3, 3, 4)
+	walls := plan.Open(3, 3, 4)
 	for i, c := range [][3]int{{0, 1, 1}, {2, 1, 1}, {1, 0, 1}, {1, 2, 1}, {1, 1, 0}, {1, 1, 3}} {
-		walls = set(walls, c[0], c[1], c[2])
+		walls = plan.Set(walls, c[0], c[1], c[2])
 		if e := grid.Right(spawning(walls, room)); e != api.OK {
 			t.Errorf("wall %d: %v", i, e)
 		}
@@ -184,7 +116,7 @@ func TestRightBesideWalls(t *testing.T) {
 // Each cell in turn is the one that is solid, in a map whose sides are not the same.
 func TestSolid(t *testing.T) {
 	for i := range 2 * 3 * 4 {
-		m := open(2, 3, 4)
+		m := plan.Open(2, 3, 4)
 		m.Solid[i] = true
 		for z := -2; z < 7; z++ {
 			for y := -2; y < 6; y++ {
@@ -201,7 +133,7 @@ func TestSolid(t *testing.T) {
 }
 
 func TestSolidOutside(t *testing.T) {
-	m := open(32, 32, 32)
+	m := plan.Open(32, 32, 32)
 	if grid.Solid(m, 0, 0, 0) || grid.Solid(m, 31, 31, 31) {
 		t.Error("a corner of the map")
 	}
@@ -217,7 +149,7 @@ func TestSolidOutside(t *testing.T) {
 			t.Errorf("%d along all axes is free", n)
 		}
 	}
-	for i, m := range unsized() {
+	for i, m := range plan.Unsized() {
 		if !grid.Solid(m, 0, 0, 0) || !grid.Solid(m, 1, 1, 1) || !grid.Solid(m, -1, 0, 0) {
 			t.Errorf("%d, of %d by %d by %d and %d cells, has a free one", i, m.W, m.D, m.H, len(m.Solid))
 		}
@@ -246,7 +178,7 @@ func TestAt(t *testing.T) {
 }
 
 func TestClear(t *testing.T) {
-	m := set(open(3, 3, 3), 1, 1, 1)
+	m := plan.Set(plan.Open(3, 3, 3), 1, 1, 1)
 	all := api.Vec{X: 3 * one, Y: 3 * one, Z: 3 * one}
 	in, out := api.Vec{X: one, Y: one, Z: one}, api.Vec{X: 2 * one, Y: 2 * one, Z: 2 * one}
 	for i, x := range []struct {
@@ -300,7 +232,7 @@ func TestClear(t *testing.T) {
 }
 
 func TestClearOfMapsThatAreNotSized(t *testing.T) {
-	for i, m := range unsized() {
+	for i, m := range plan.Unsized() {
 		if grid.Clear(m, api.Vec{}, api.Vec{X: 1, Y: 1, Z: 1}) {
 			t.Errorf("%d: a point is free", i)
 		}
@@ -333,16 +265,16 @@ func TestClearOfManyBoxes(t *testing.T) {
 	seed := uint32(9)
 	// near is so many cells on, or right beside that, or anywhere behind it.
 	near := func(cells int64) int64 {
-		return cells*one + [4]int64{-1, 0, 1, next(&seed)}[next(&seed)%4]
+		return cells*one + [4]int64{-1, 0, 1, plan.Next(&seed)}[plan.Next(&seed)%4]
 	}
 	// span is at most some cells long; few are turned round, or lie outside.
 	span := func(side int64) (int64, int64) {
-		n := next(&seed) % side
-		return near(n), near(n + next(&seed)%2 + next(&seed)%8/7)
+		n := plan.Next(&seed) % side
+		return near(n), near(n + plan.Next(&seed)%2 + plan.Next(&seed)%8/7)
 	}
 	seen := [2]int{}
 	for i := range 30000 {
-		m := mixed(3, 4, 2, 12, uint32(i/100))
+		m := plan.Mixed(3, 4, 2, 12, uint32(i/100))
 		var lo, hi api.Vec
 		lo.X, hi.X = span(3)
 		lo.Y, hi.Y = span(4)
@@ -366,7 +298,7 @@ func TestClearOfManyBoxes(t *testing.T) {
 
 // What calls are handed stays as it was, and the same calls have the same answers.
 func TestMapsStayAsTheyWere(t *testing.T) {
-	m := spawning(mixed(3, 3, 4, 4, 5), room, api.Vec{})
+	m := spawning(plan.Mixed(3, 3, 4, 4, 5), room, api.Vec{})
 	was := spawning(m, slices.Clone(m.Spawns)...)
 	was.Solid = slices.Clone(m.Solid)
 	for range 2 {
@@ -378,7 +310,7 @@ func TestMapsStayAsTheyWere(t *testing.T) {
 	if !reflect.DeepEqual(m, was) {
 		t.Error("the map has changed")
 	}
-	n := spawning(open(3, 3, 4), room)
+	n := spawning(plan.Open(3, 3, 4), room)
 	before := grid.Right(n)
 	n.Solid[4+9] = true
 	if after := grid.Right(n); before != api.OK || after != api.ErrArg {

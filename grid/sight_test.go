@@ -5,6 +5,7 @@ import (
 
 	"embrasure/api"
 	"embrasure/grid"
+	"embrasure/plan"
 )
 
 // at is a point, in quarters of a cell, halfway up the lowest storey.
@@ -33,7 +34,7 @@ func check(t *testing.T, l []look) {
 }
 
 func TestSightAlongAnAxis(t *testing.T) {
-	gap := plan([]string{"...", "...", "..."}, []string{"...", ".#.", "..."}, []string{"...", "...", "..."})
+	gap := plan.Of([]string{"...", "...", "..."}, []string{"...", ".#.", "..."}, []string{"...", "...", "..."})
 	check(t, []look{
 		{gap, up(2, 6, 6), up(10, 6, 6), false}, {gap, up(2, 2, 6), up(10, 2, 6), true}, {gap, up(2, 10, 6), up(10, 10, 6), true},
 		{gap, up(6, 2, 6), up(6, 10, 6), false}, {gap, up(2, 2, 6), up(2, 10, 6), true}, {gap, up(10, 2, 6), up(10, 10, 6), true},
@@ -50,15 +51,15 @@ func TestSightAlongAnAxis(t *testing.T) {
 	// One short of the wall along its axis, and just in it.
 	edge := one + one
 	check(t, []look{
-		{plan([]string{"..#"}), at(2, 2), api.Vec{X: int64(edge) - 1, Y: half, Z: half}, true},
-		{plan([]string{"..#"}), at(2, 2), api.Vec{X: int64(edge), Y: half, Z: half}, false},
-		{plan([]string{"#.."}), at(10, 2), api.Vec{X: one, Y: half, Z: half}, true},
-		{plan([]string{"#.."}), at(10, 2), api.Vec{X: one - 1, Y: half, Z: half}, false},
+		{plan.Of([]string{"..#"}), at(2, 2), api.Vec{X: int64(edge) - 1, Y: half, Z: half}, true},
+		{plan.Of([]string{"..#"}), at(2, 2), api.Vec{X: int64(edge), Y: half, Z: half}, false},
+		{plan.Of([]string{"#.."}), at(10, 2), api.Vec{X: one, Y: half, Z: half}, true},
+		{plan.Of([]string{"#.."}), at(10, 2), api.Vec{X: one - 1, Y: half, Z: half}, false},
 	})
 }
 
 func TestSightThroughACorner(t *testing.T) {
-	flat := func(rows ...string) api.Map { return plan(rows) }
+	flat := func(rows ...string) api.Map { return plan.Of(rows) }
 	check(t, []look{
 		// Both axes rise, or both fall: the corner is of the cell ahead, and nothing else is touched.
 		{flat("..", ".."), at(2, 2), at(6, 6), true}, {flat(".#", "#."), at(2, 2), at(6, 6), true}, {flat("..", ".#"), at(2, 2), at(6, 6), false}, {flat("#.", ".."), at(2, 2), at(6, 6), false},
@@ -97,7 +98,7 @@ func TestSightThroughACornerOfThree(t *testing.T) {
 		}
 		for n := range 8 {
 			c := [3]int{n & 1, n >> 1 & 1, n >> 2}
-			if m := set(open(2, 2, 2), c[0], c[1], c[2]); grid.Sight(m, x.a, x.b) == met[c] || grid.Sight(m, x.b, x.a) == met[c] {
+			if m := plan.Set(plan.Open(2, 2, 2), c[0], c[1], c[2]); grid.Sight(m, x.a, x.b) == met[c] || grid.Sight(m, x.b, x.a) == met[c] {
 				t.Errorf("%d: cell %v is not met as it should be", i, c)
 			}
 		}
@@ -108,8 +109,8 @@ func TestSightThroughACornerOfThree(t *testing.T) {
 func TestSightBetweenWholeNumbers(t *testing.T) {
 	low := func(x, y int64) api.Vec { return api.Vec{X: x, Y: y} }
 	// From one cell into the one beyond the corner, over the one to the east.
-	east := plan([]string{".#", ".."})
-	north := plan([]string{"..", "#."})
+	east := plan.Of([]string{".#", ".."})
+	north := plan.Of([]string{"..", "#."})
 	check(t, []look{
 		{east, low(one-1, one-1), low(one+1, one), false},
 		{north, low(one-1, one-1), low(one+1, one), true},
@@ -118,21 +119,21 @@ func TestSightBetweenWholeNumbers(t *testing.T) {
 		{east, low(one-1, one-1), low(one, one), true},
 		{north, low(one-1, one-1), low(one, one), true},
 		// Far from end to end, and past the corner by the least that there may be.
-		{plan([]string{".#.", "..."}), low(0, 0), low(3*one-1, 2*one-1), false},
-		{plan([]string{"...", "#.."}), low(0, 0), low(3*one-1, 2*one-1), true},
-		{plan([]string{".#", ".."}), low(0, 0), low(2*one-1, 2*one-2), false},
-		{plan([]string{".#", ".."}), low(0, 0), low(2*one-2, 2*one-1), true},
-		{plan([]string{".#", ".."}), low(1, 0), low(2*one-1, 2*one-1), false},
-		{plan([]string{".#", ".."}), low(0, 1), low(2*one-1, 2*one-1), true},
+		{plan.Of([]string{".#.", "..."}), low(0, 0), low(3*one-1, 2*one-1), false},
+		{plan.Of([]string{"...", "#.."}), low(0, 0), low(3*one-1, 2*one-1), true},
+		{plan.Of([]string{".#", ".."}), low(0, 0), low(2*one-1, 2*one-2), false},
+		{plan.Of([]string{".#", ".."}), low(0, 0), low(2*one-2, 2*one-1), true},
+		{plan.Of([]string{".#", ".."}), low(1, 0), low(2*one-1, 2*one-1), false},
+		{plan.Of([]string{".#", ".."}), low(0, 1), low(2*one-1, 2*one-1), true},
 	})
 }
 
 func TestSightOfEnds(t *testing.T) {
-	free := open(1, 1, 1)
-	wall := plan([]string{".#"})
+	free := plan.Open(1, 1, 1)
+	wall := plan.Of([]string{".#"})
 	check(t, []look{
 		{free, at(1, 1), at(1, 1), true}, {free, up(0, 0, 0), up(0, 0, 0), true}, {free, api.Vec{}, api.Vec{X: one - 1, Y: one - 1, Z: one - 1}, true},
-		{plan([]string{"#"}), at(1, 1), at(1, 1), false}, {plan([]string{"#"}), at(1, 1), at(2, 3), false},
+		{plan.Of([]string{"#"}), at(1, 1), at(1, 1), false}, {plan.Of([]string{"#"}), at(1, 1), at(2, 3), false},
 		{wall, at(1, 1), at(6, 1), false}, {wall, at(6, 1), at(6, 1), false}, {wall, at(1, 1), at(4, 1), false},
 	})
 	// An end outside is solid, on whatever side, and as far away as numbers go.
@@ -151,7 +152,7 @@ func TestSightOfEnds(t *testing.T) {
 }
 
 func TestSightOfMapsThatAreNotSized(t *testing.T) {
-	for i, m := range unsized() {
+	for i, m := range plan.Unsized() {
 		if grid.Sight(m, api.Vec{}, api.Vec{}) || grid.Sight(m, room, api.Vec{X: 1}) || grid.Sight(m, api.Vec{X: least}, api.Vec{X: most}) {
 			t.Errorf("%d, of %d by %d by %d and %d cells", i, m.W, m.D, m.H, len(m.Solid))
 		}
@@ -160,10 +161,10 @@ func TestSightOfMapsThatAreNotSized(t *testing.T) {
 
 // In a map of one free cell all see all within it.
 func TestSightInOneCell(t *testing.T) {
-	free := open(1, 1, 1)
+	free := plan.Open(1, 1, 1)
 	seed := uint32(1)
 	for range 1000 {
-		a, b := api.Vec{X: next(&seed), Y: next(&seed), Z: next(&seed)}, api.Vec{X: next(&seed), Y: next(&seed), Z: next(&seed)}
+		a, b := api.Vec{X: plan.Next(&seed), Y: plan.Next(&seed), Z: plan.Next(&seed)}, api.Vec{X: plan.Next(&seed), Y: plan.Next(&seed), Z: plan.Next(&seed)}
 		if !grid.Sight(free, a, b) {
 			t.Fatalf("from %v to %v", a, b)
 		}
@@ -245,7 +246,7 @@ func TestSightOfCorners(t *testing.T) {
 	}
 	var alone [8]api.Map
 	for i := range alone {
-		alone[i] = open(2, 2, 2)
+		alone[i] = plan.Open(2, 2, 2)
 		alone[i].Solid[i] = true
 	}
 	for _, a := range points {
@@ -265,7 +266,7 @@ func checkMany(t *testing.T, count, w, d, h int, point func(seed *uint32) api.Ve
 	seed := uint32(w + 100*d + 10000*h)
 	seen := [2]int{}
 	for i := range count {
-		m := mixed(w, d, h, 4, uint32(i/100))
+		m := plan.Mixed(w, d, h, 4, uint32(i/100))
 		a, b := point(&seed), point(&seed)
 		want := wantSight(m, a, b)
 		if got := grid.Sight(m, a, b); got != want {
@@ -287,11 +288,11 @@ func checkMany(t *testing.T, count, w, d, h int, point func(seed *uint32) api.Ve
 
 // In quarters many lines go through corners, and end on them.
 func TestSightOfQuarters(t *testing.T) {
-	checkMany(t, 60000, 4, 3, 2, func(seed *uint32) api.Vec { return up(next(seed)%18-1, next(seed)%14-1, next(seed)%9) })
+	checkMany(t, 60000, 4, 3, 2, func(seed *uint32) api.Vec { return up(plan.Next(seed)%18-1, plan.Next(seed)%14-1, plan.Next(seed)%9) })
 }
 
 func TestSightOfAllPoints(t *testing.T) {
-	side := func(seed *uint32, n int64) int64 { return next(seed)%n*one + next(seed) }
+	side := func(seed *uint32, n int64) int64 { return plan.Next(seed)%n*one + plan.Next(seed) }
 	checkMany(t, 40000, 4, 3, 3, func(seed *uint32) api.Vec {
 		return api.Vec{X: side(seed, 4), Y: side(seed, 3), Z: side(seed, 3)}
 	})
@@ -300,7 +301,7 @@ func TestSightOfAllPoints(t *testing.T) {
 // From side to side of the greatest map there is, numbers are as great as they get.
 func TestSightOfTheGreatestMap(t *testing.T) {
 	end := int64(api.MaxSide*one - 1)
-	m := open(api.MaxSide, api.MaxSide, api.MaxSide)
+	m := plan.Open(api.MaxSide, api.MaxSide, api.MaxSide)
 	ends := []api.Vec{{}, {X: end}, {Y: end}, {Z: end}, {X: end, Y: end}, {X: end, Z: end}, {Y: end, Z: end}, {X: end, Y: end, Z: end}}
 	for _, a := range ends {
 		for _, b := range ends {
@@ -312,14 +313,14 @@ func TestSightOfTheGreatestMap(t *testing.T) {
 	seed := uint32(3)
 	hit := 0
 	for range 3000 {
-		a := api.Vec{X: next(&seed) * 31, Y: next(&seed) * 31, Z: next(&seed) * 31}
-		b := api.Vec{X: next(&seed) * 31, Y: next(&seed) * 31, Z: next(&seed) * 31}
-		share := next(&seed)
+		a := api.Vec{X: plan.Next(&seed) * 31, Y: plan.Next(&seed) * 31, Z: plan.Next(&seed) * 31}
+		b := api.Vec{X: plan.Next(&seed) * 31, Y: plan.Next(&seed) * 31, Z: plan.Next(&seed) * 31}
+		share := plan.Next(&seed)
 		// beside is the cell of a point of the line, or one beside it.
 		beside := func(from, to int64) int {
-			return max(int((from+(to-from)*share/one)/one+next(&seed)%2-next(&seed)%2), 0)
+			return max(int((from+(to-from)*share/one)/one+plan.Next(&seed)%2-plan.Next(&seed)%2), 0)
 		}
-		walled := set(m, beside(a.X, b.X), beside(a.Y, b.Y), beside(a.Z, b.Z))
+		walled := plan.Set(m, beside(a.X, b.X), beside(a.Y, b.Y), beside(a.Z, b.Z))
 		want := wantSight(walled, a, b)
 		if grid.Sight(walled, a, b) != want || grid.Sight(walled, b, a) != want {
 			t.Fatalf("from %v to %v: not %v", a, b, want)
