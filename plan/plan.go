@@ -72,3 +72,18 @@ func Unsized() []api.Map {
 		api.Map{W: 1 << 32, D: 1 << 32, H: 1},
 	)
 }
+
+// Place is a vector by its axes, so that tests can go through them.
+type Place [3]int64
+
+// At is the place of a vector.
+func At(v api.Vec) Place { return Place{v.X, v.Y, v.Z} }
+
+// Vec is the vector of a place.
+func (p Place) Vec() api.Vec { return api.Vec{X: p[0], Y: p[1], Z: p[2]} }
+
+// With is the place with another number along one axis.
+func (p Place) With(axis int, n int64) Place {
+	p[axis] = n
+	return p
+}

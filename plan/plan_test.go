@@ -4,6 +4,7 @@ import (
 	"slices"
 	"testing"
 
+	"embrasure/api"
 	"embrasure/grid"
 	"embrasure/plan"
 )
@@ -51,6 +52,21 @@ func TestUnsized(t *testing.T) {
 	for i, m := range plan.Unsized() {
 		if !grid.Solid(m, 1, 1, 1) {
 			t.Errorf("%d, of %d by %d by %d and %d cells, is sized", i, m.W, m.D, m.H, len(m.Solid))
+		}
+	}
+}
+
+func TestPlace(t *testing.T) {
+	p := plan.Place{1, 2, 3}
+	if p.Vec() != (api.Vec{X: 1, Y: 2, Z: 3}) || plan.At(p.Vec()) != p {
+		t.Errorf("%v", p.Vec())
+	}
+	for axis := range 3 {
+		q := p.With(axis, 9)
+		p2 := p
+		p2[axis] = 9
+		if q != p2 || p != (plan.Place{1, 2, 3}) {
+			t.Errorf("axis %d: %v of %v", axis, q, p)
 		}
 	}
 }

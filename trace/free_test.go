@@ -18,16 +18,8 @@ const (
 	half  = api.One / 2
 )
 
-// place is a vector by its axes, so that tests can go through them.
-type place [3]int64
-
-func (p place) vec() api.Vec { return api.Vec{X: p[0], Y: p[1], Z: p[2]} }
-
-// with is the place with another number along one axis.
-func (p place) with(axis int, n int64) place {
-	p[axis] = n
-	return p
-}
+// place is a vector by its axes.
+type place = plan.Place
 
 // reach is how far a player's box reaches from its place, along each axis and both ways.
 var reach = place{api.Wide, api.Wide, api.Tall}
@@ -54,7 +46,7 @@ func TestFree(t *testing.T) {
 		{m, place{one, one, one}, true}, {plan.Set(m, 0, 0, 0), place{one, one, one}, false}, {plan.Set(m, 1, 0, 0), place{one, one, one}, false},
 		{plan.Set(m, 0, 1, 1), place{one, one, one}, false}, {plan.Set(m, 1, 1, 1), place{one, one, one}, false}, {plan.Set(m, 1, 1, 2), place{one, one, one}, true},
 	} {
-		if got := trace.Free(x.m, x.at.vec()); got != x.want {
+		if got := trace.Free(x.m, x.at.Vec()); got != x.want {
 			t.Errorf("%d: %v: %v", i, x.at, got)
 		}
 	}
@@ -79,7 +71,7 @@ func TestFreeBesideWalls(t *testing.T) {
 				{x.lo + reach[axis], true}, {x.lo + reach[axis] - 1, false}, {x.lo + reach[axis] + 1, true}, {x.lo, false}, {x.lo - 1, false},
 				{x.hi - reach[axis], true}, {x.hi - reach[axis] + 1, false}, {x.hi - reach[axis] - 1, true}, {x.hi, false}, {x.hi + 1, false},
 			} {
-				if got := trace.Free(x.m, room.with(axis, edge.n).vec()); got != edge.want {
+				if got := trace.Free(x.m, room.With(axis, edge.n).Vec()); got != edge.want {
 					t.Errorf("axis %d from %d to %d, at %d: %v", axis, x.lo, x.hi, edge.n, got)
 				}
 			}
@@ -97,11 +89,11 @@ func TestFreeAtTheEndsOfAllNumbers(t *testing.T) {
 	m := plan.Open(3, 3, 4)
 	for _, n := range far {
 		for axis := range 3 {
-			if trace.Free(m, room.with(axis, n).vec()) {
+			if trace.Free(m, room.With(axis, n).Vec()) {
 				t.Errorf("axis %d at %d is free", axis, n)
 			}
 		}
-		if trace.Free(m, place{n, n, n}.vec()) {
+		if trace.Free(m, place{n, n, n}.Vec()) {
 			t.Errorf("all axes at %d are free", n)
 		}
 	}
@@ -110,7 +102,7 @@ func TestFreeAtTheEndsOfAllNumbers(t *testing.T) {
 func TestFreeOfMapsThatAreNotSized(t *testing.T) {
 	for i, m := range plan.Unsized() {
 		for _, at := range []place{room, {}, {half, half, one}, {-half, half, one}, {most, least, 0}} {
-			if trace.Free(m, at.vec()) {
+			if trace.Free(m, at.Vec()) {
 				t.Errorf("%d, of %d by %d by %d and %d cells: %v is free", i, m.W, m.D, m.H, len(m.Solid), at)
 			}
 		}
@@ -152,7 +144,7 @@ func TestFreeOfManyPlaces(t *testing.T) {
 		m := plan.Mixed(3, 4, 5, 12, uint32(i/100))
 		at := anywhere(m, &seed)
 		want := wantFree(m, at)
-		if got := trace.Free(m, at.vec()); got != want {
+		if got := trace.Free(m, at.Vec()); got != want {
 			t.Fatalf("map %d, %v: %v", i/100, at, got)
 		}
 		seen[want]++
@@ -165,20 +157,20 @@ func TestFreeOfManyPlaces(t *testing.T) {
 // What calls are handed stays as it was, and nothing of it is kept.
 func TestMapsStayAsTheyWere(t *testing.T) {
 	m := plan.Mixed(3, 3, 4, 8, 5)
-	m.Spawns = []api.Vec{room.vec(), {}}
+	m.Spawns = []api.Vec{room.Vec(), {}}
 	was := m
 	was.Solid, was.Spawns = slices.Clone(m.Solid), slices.Clone(m.Spawns)
 	for _, at := range []place{room, {}, {half, half, one}, {most, least, most}} {
-		trace.Free(m, at.vec())
-		trace.Slide(m, at.vec(), api.Vec{X: 1, Y: -1, Z: most})
+		trace.Free(m, at.Vec())
+		trace.Slide(m, at.Vec(), api.Vec{X: 1, Y: -1, Z: most})
 	}
 	if !reflect.DeepEqual(m, was) {
 		t.Error("the map has changed")
 	}
 	n := plan.Open(3, 3, 4)
-	before := trace.Free(n, room.vec())
+	before := trace.Free(n, room.Vec())
 	n.Solid[4+9] = true
-	if after := trace.Free(n, room.vec()); !before || after {
+	if after := trace.Free(n, room.Vec()); !before || after {
 		t.Errorf("written over: %v, and then %v", before, after)
 	}
 }

@@ -18,7 +18,7 @@ func check(t *testing.T, m api.Map, l []slid) {
 	t.Helper()
 	for i, x := range l {
 		for range 2 {
-			if at, blocked := trace.Slide(m, x.at.vec(), x.by.vec()); at != x.want.vec() || blocked != x.blocked {
+			if at, blocked := trace.Slide(m, x.at.Vec(), x.by.Vec()); at != x.want.Vec() || blocked != x.blocked {
 				t.Errorf("%d: from %v by %v: %v, %v", i, x.at, x.by, at, blocked)
 			}
 		}
@@ -42,7 +42,7 @@ func TestSlideAlongAWall(t *testing.T) {
 		{at, place{0, one / 4, 0}, place{at[0], 3 * one / 4, one}, nowhere},
 		{at, place{-one / 4, one / 4, 0}, place{at[0] - one/4, 3 * one / 4, one}, nowhere},
 	})
-	north := at.vec()
+	north := at.Vec()
 	for range 20 {
 		next, blocked := trace.Slide(m, north, api.Vec{X: one / 4, Y: one / 8})
 		if next.X != at[0] || next.Z != one || !blocked[0] || blocked[2] || blocked[1] != (next.Y == north.Y) {
@@ -93,8 +93,8 @@ func TestSlideUpToAWall(t *testing.T) {
 		var blocked [3]bool
 		blocked[axis] = true
 		lo, hi := reach[axis], ends[axis]-reach[axis]
-		by := func(n int64) place { return place{}.with(axis, n) }
-		at := func(n int64) place { return room.with(axis, n) }
+		by := func(n int64) place { return place{}.With(axis, n) }
+		at := func(n int64) place { return room.With(axis, n) }
 		check(t, m, []slid{
 			{at(lo + 9), by(-9), at(lo), nowhere}, {at(lo + 9), by(-10), at(lo + 9), blocked}, {at(lo + 9), by(-8), at(lo + 1), nowhere},
 			{at(hi - 9), by(9), at(hi), nowhere}, {at(hi - 9), by(10), at(hi - 9), blocked}, {at(hi - 9), by(8), at(hi - 1), nowhere},
@@ -112,15 +112,15 @@ func TestSlideIsCut(t *testing.T) {
 			{api.Most - 1, api.Most - 1}, {api.Most, api.Most}, {api.Most + 1, api.Most}, {one, api.Most}, {1 << 40, api.Most}, {most - 1, api.Most}, {most, api.Most},
 			{1 - api.Most, 1 - api.Most}, {-api.Most, -api.Most}, {-api.Most - 1, -api.Most}, {-one, -api.Most}, {-1 << 40, -api.Most}, {least + 1, -api.Most}, {least, -api.Most},
 		} {
-			by := place{}.with(axis, x.by)
-			check(t, m, []slid{{room, by, room.with(axis, room[axis]+x.want), nowhere}})
+			by := place{}.With(axis, x.by)
+			check(t, m, []slid{{room, by, room.With(axis, room[axis]+x.want), nowhere}})
 			// What is left of it has just room as far as the map's end, or lacks one.
 			end := reach[axis]
 			if x.by > 0 {
 				end = ends[axis] - reach[axis]
 			}
-			start := room.with(axis, end-x.want)
-			check(t, m, []slid{{start, by, room.with(axis, end), nowhere}})
+			start := room.With(axis, end-x.want)
+			check(t, m, []slid{{start, by, room.With(axis, end), nowhere}})
 			if x.by > 0 {
 				start[axis]++
 			} else {
@@ -149,7 +149,7 @@ func TestSlideOrder(t *testing.T) {
 		}
 		xy, xz, yz, xyz := solid[0], solid[1], solid[2], solid[3]
 		for axis := range 3 {
-			check(t, m, []slid{{at, place{}.with(axis, half), at.with(axis, at[axis]+half), nowhere}})
+			check(t, m, []slid{{at, place{}.With(axis, half), at.With(axis, at[axis]+half), nowhere}})
 		}
 		l := []slid{
 			{at, place{half, half, 0}, at, [3]bool{false, xy, false}},
@@ -190,9 +190,9 @@ func TestSlideOfWhoIsNotFree(t *testing.T) {
 	under := place{half, one, 2*one + api.Tall - half}
 	tall := plan.Of([]string{"#", "#"}, []string{"#", "#"}, []string{".", "."}, []string{".", "."})
 	check(t, tall, []slid{
-		{under, place{1, 1, half}, under.with(2, 2*one+api.Tall), [3]bool{true, true, false}},
-		{under, place{0, 1, half}, under.with(2, 2*one+api.Tall), yAlone},
-		{under, place{0, 0, half}, under.with(2, 2*one+api.Tall), nowhere},
+		{under, place{1, 1, half}, under.With(2, 2*one+api.Tall), [3]bool{true, true, false}},
+		{under, place{0, 1, half}, under.With(2, 2*one+api.Tall), yAlone},
+		{under, place{0, 0, half}, under.With(2, 2*one+api.Tall), nowhere},
 		{under, place{1, 1, half - 1}, under, [3]bool{true, true, true}},
 	})
 }
@@ -208,8 +208,8 @@ func TestSlideAtTheEndsOfAllNumbers(t *testing.T) {
 			for axis := range 3 {
 				var blocked [3]bool
 				blocked[axis] = true
-				at := room.with(axis, n)
-				l = append(l, slid{at, place{}.with(axis, way), at, blocked}, slid{at, place{}, at, nowhere})
+				at := room.With(axis, n)
+				l = append(l, slid{at, place{}.With(axis, way), at, blocked}, slid{at, place{}, at, nowhere})
 			}
 		}
 	}
@@ -233,7 +233,7 @@ func wantSlide(m api.Map, at, by place) (place, [3]bool) {
 	var blocked [3]bool
 	for axis := range 3 {
 		way := min(max(by[axis], -api.Most), api.Most)
-		if next := at.with(axis, at[axis]+way); wantFree(m, next) {
+		if next := at.With(axis, at[axis]+way); wantFree(m, next) {
 			at = next
 		} else if way != 0 {
 			blocked[axis] = true
@@ -259,7 +259,7 @@ func TestSlideOfManyPlaces(t *testing.T) {
 		m := plan.Mixed(3, 4, 5, 12, uint32(i/100))
 		at, by := anywhere(m, &seed), step(&seed)
 		want, blocked := wantSlide(m, at, by)
-		if got, b := trace.Slide(m, at.vec(), by.vec()); got != want.vec() || b != blocked {
+		if got, b := trace.Slide(m, at.Vec(), by.Vec()); got != want.Vec() || b != blocked {
 			t.Fatalf("map %d, from %v by %v: %v, %v", i/100, at, by, got, b)
 		}
 		for axis, is := range blocked {
@@ -289,8 +289,8 @@ func TestWhoIsFreeStaysFree(t *testing.T) {
 		for range 200 {
 			by := step(&seed)
 			want, _ := wantSlide(m, at, by)
-			next, _ := trace.Slide(m, at.vec(), by.vec())
-			if next != want.vec() || !trace.Free(m, next) || !wantFree(m, want) {
+			next, _ := trace.Slide(m, at.Vec(), by.Vec())
+			if next != want.Vec() || !trace.Free(m, next) || !wantFree(m, want) {
 				t.Fatalf("map %d, from %v by %v: %v", i, at, by, next)
 			}
 			at = want
